@@ -1,0 +1,1 @@
+"""Clockhouse: a house without end, what waits in it, and clocks of fewest hands."""
