@@ -4,18 +4,10 @@ import unittest
 
 from clockhouse.errors import NoHouse
 from clockhouse.houses import look_house, rule_of, steps_of, waits_for
-from tests.samples import Dice, at, house_of, if_, num, op, plain_reads, some_house
+from tests.samples import Dice, at, house_of, if_, num, op, plain_reads, some_house, sum_of
 
 GREATEST = 10**9
 NAMES = ("a", "b", "c", "d", "e", "f")
-
-
-def sum_of(parts):
-    """One rule of all the parts, from left to right."""
-    rule = parts[0]
-    for part in parts[1:]:
-        rule = op("+", rule, part)
-    return rule
 
 
 def house_of_steps(many):
