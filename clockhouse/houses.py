@@ -71,6 +71,11 @@ def led(place, row):
     return tuple([number + more for number, more in zip(place, row)])
 
 
+def along(row, place):
+    """The sum of a row's numbers times a place's, or times another row's."""
+    return sum([number * other for number, other in zip(row, place)])
+
+
 def waits_for(house, cell):
     """A list of the cells that a cell waits for, one for each of its desk's steps."""
     name, place = cell

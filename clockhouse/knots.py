@@ -3,6 +3,11 @@
 from clockhouse.houses import steps_of
 
 
+def all_steps(house):
+    """A tuple of the numbers of all steps of a house."""
+    return tuple(range(len(steps_of(house))))
+
+
 def step_ends(house, some):
     """A list of (name, other) for each of some steps."""
     steps = steps_of(house)
@@ -49,3 +54,11 @@ def knots_of(house, some):
         knots.append(knot)
         told.extend(knot)
     return tuple(knots)
+
+
+def lie_in_one(house, some, around):
+    """Whether some steps, one at least, lie within one knot of the steps around."""
+    ends = step_ends(house, some)
+    first = ends[0][0]
+    knot = [one for one in knots_of(house, around) if first in one][0]
+    return all([name in knot and other in knot for name, other in ends])

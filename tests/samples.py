@@ -94,6 +94,58 @@ def stepped_house(dice, most=2, names=("a", "bb", "c", "dd", "e", "f")):
     return house_with(names, steps, ways, dice.one_of((2, 10, 10**9)))
 
 
+def wound_house(dice):
+    """A house with a clock of two or three hands, whose rows were moved and turned; its desks stand in any order."""
+    ways = dice.one_of((2, 3))
+    names = stirred(dice, ("a", "bb", "c", "dd", "e", "f"))[:4 if ways == 3 else 2 + dice.below(3)]
+    steps = wound_steps(names, ways)
+    while True:
+        offsets = {name: [dice.below(2) for way in range(ways)] for name in names}
+        table = [[dice.below(3) - 1 for way in range(ways)] for way in range(ways)]
+        led = [tuple([sum(map(int.__mul__, line, row)) + offsets[other][k] - offsets[name][k]
+                      for k, line in enumerate(table)]) for name, other, row in steps]
+        if determinant(table) in (1, -1) and all(-2 <= number <= 2 for row in led for number in row):
+            turned = [(name, other, row) for (name, other, old), row in zip(steps, led)]
+            return house_with(stirred(dice, names), turned, ways)
+
+
+def crossed_house(dice):
+    """A house like a wound one, with up to three steps more: it may have a ring, perhaps a hidden one."""
+    ways, wheel, desks = house = wound_house(dice)
+    names = [name for name, rule in desks]
+    steps = plain_steps(house)
+    for turn in range(1 + dice.below(3)):
+        step = (dice.one_of(names), dice.one_of(names), tuple([dice.below(3) - 1 for way in range(ways)]))
+        if step not in steps:
+            steps.append(step)
+    return house_with(names, steps, ways)
+
+
+def wound_steps(names, ways):
+    """Desks by twos, with own rows against one another, the twos linked; of four desks in three directions by threes."""
+    def row(*numbers):
+        return (numbers + (0, 0))[:ways]
+    if ways == 3:
+        a, b, c, d = names
+        return [(a, a, (0, 0, 1)), (b, b, (0, 0, -1)), (a, b, (0, 1, 0)), (b, a, (0, 0, 0)),
+                (c, c, (0, 0, 1)), (d, d, (0, 0, -1)), (c, d, (0, -1, 0)), (d, c, (0, 0, 0)),
+                (a, c, (1, 0, 0)), (c, a, (0, 0, 0))]
+    links = [(name, other, row(-1, 0)) for name, other in zip(names, names[1:])] + [(names[-1], names[0], row(0, 0))]
+    return [(name, name, row(0, (-1) ** k)) for k, name in enumerate(names)] + links
+
+
+def determinant(table):
+    if len(table) == 1:
+        return table[0][0]
+    return sum([(-1) ** k * number * determinant([line[:k] + line[k + 1:] for line in table[1:]])
+                for k, number in enumerate(table[0])])
+
+
+def stirred(dice, things):
+    things = list(things)
+    return [things.pop(dice.below(len(things))) for thing in list(things)]
+
+
 def some_lot(dice, house, most=40):
     """Up to so many unlike cells of a house, near one another, in any order."""
     low = dice.one_of((0, -3, -1000, 990))
@@ -199,3 +251,84 @@ def plain_needs(house, lot, cell):
 
 def has_ring(house, lot):
     return any(cell in plain_needs(house, lot, cell) for cell in lot)
+
+
+def plain_knots(house, some):
+    """knots_of, by the words of the document."""
+    names = [name for name, rule in house[2]]
+    steps = [plain_steps(house)[number] for number in some]
+    far = {name: come_to(lambda own: [step[1] for step in steps if step[0] == own], name) for name in names}
+    knots = sorted({tuple([b for b in names if a == b or b in far[a] and a in far[b]]) for a in names},
+                   key=lambda knot: names.index(knot[0]))
+    told = []
+    while len(told) < len(knots):
+        ahead = [name for knot in told for name in knot]
+        for knot in knots:
+            others = [step[1] for step in steps if step[0] in knot]
+            if knot not in told and all(other in knot or other in ahead for other in others):
+                told.append(knot)
+                break
+    return tuple(told)
+
+
+def plain_is_bundle(house, amounts):
+    """is_bundle, by the words of the document."""
+    steps = plain_steps(house)
+    if min(amounts, default=0) < 0 or max(amounts, default=0) <= 0:
+        return False
+    for desk, rule in house[2]:
+        out = sum([amount for amount, step in zip(amounts, steps) if step[0] == desk])
+        into = sum([amount for amount, step in zip(amounts, steps) if step[1] == desk])
+        if out != into:
+            return False
+    rows = [[amount * number for number in step[2]] for amount, step in zip(amounts, steps)]
+    return [sum(numbers) for numbers in zip(*rows)] == [0] * house[0]
+
+
+def plain_hangs(house, amounts):
+    """hangs_together, by the words of the document."""
+    steps = [step for amount, step in zip(amounts, plain_steps(house)) if amount > 0]
+    desks = {desk for step in steps for desk in step[:2]}
+    return all(set(come_to(lambda own: [step[1] for step in steps if step[0] == own], desk)) == desks for desk in desks)
+
+
+def hand_time(row, hours, cell):
+    """A cell's time by a hand."""
+    return sum([a * b for a, b in zip(row, cell[1])]) + hours[cell[0]]
+
+
+def plain_time(clock, cell):
+    """time_of, by the words of the document."""
+    knot, hands = clock[cell[0]]
+    return (knot,) + tuple([hand_time(row, {cell[0]: hour}, cell) for row, hour in hands])
+
+
+def telling_places(ways):
+    """Places by which a step is seen to be kept at every place: two times whose rows are unlike cross far off."""
+    far = 10**15
+    return [(0,) * ways] + [(0,) * k + (sign * far,) + (0,) * (ways - k - 1) for k in range(ways) for sign in (1, -1)]
+
+
+def plain_kept(house, clock, step):
+    """Whether a clock keeps a step, by its times."""
+    name, other, row = step
+    return all(plain_time(clock, (name, place)) > plain_time(clock, (other, plain_led(place, row)))
+               for place in telling_places(house[0]))
+
+
+def plain_paper_holds(house, paper):
+    """paper_holds, by the words of the document."""
+    steps = plain_steps(house)
+    around = list(range(len(steps)))
+    for amounts in paper:
+        some = [number for number, amount in enumerate(amounts) if amount > 0]
+        links = [steps[number] for number in around]
+        if not plain_is_bundle(house, amounts) or not set(some) <= set(around):
+            return False
+        desks = {desk for number in some for desk in steps[number][:2]}
+        for desk in desks:
+            far = come_to(lambda own: [link[1] for link in links if link[0] == own], desk)
+            if not desks <= set(far) | {desk}:
+                return False
+        around = some
+    return True

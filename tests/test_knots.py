@@ -5,7 +5,7 @@ import unittest
 
 from clockhouse.houses import steps_of
 from clockhouse.knots import knots_of
-from tests.samples import Dice, come_to, house_of, house_with, num, plain_steps, stepped_house
+from tests.samples import Dice, house_of, house_with, num, plain_knots, stepped_house
 
 
 def linked(names, *links):
@@ -16,24 +16,6 @@ def linked(names, *links):
 
 def all_steps(house):
     return tuple(range(len(steps_of(house))))
-
-
-def plain_knots(house, some):
-    """knots_of, by the words of the document."""
-    names = [name for name, rule in house[2]]
-    steps = [plain_steps(house)[number] for number in some]
-    far = {name: come_to(lambda own: [step[1] for step in steps if step[0] == own], name) for name in names}
-    knots = sorted({tuple([b for b in names if a == b or b in far[a] and a in far[b]]) for a in names},
-                   key=lambda knot: names.index(knot[0]))
-    told = []
-    while len(told) < len(knots):
-        ahead = [name for knot in told for name in knot]
-        for knot in knots:
-            others = [step[1] for step in steps if step[0] in knot]
-            if knot not in told and all(other in knot or other in ahead for other in others):
-                told.append(knot)
-                break
-    return tuple(told)
 
 
 class Knots(unittest.TestCase):

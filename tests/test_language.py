@@ -14,7 +14,7 @@ TREES = {stem: ast.parse(text) for stem, text in TEXTS.items()}
 NODES = """Module FunctionDef ClassDef arguments arg Return Assign AugAssign For While If Raise Try ExceptHandler Assert
 ImportFrom alias Expr Pass Break Continue Delete BoolOp BinOp UnaryOp Lambda IfExp Dict Set ListComp SetComp DictComp
 comprehension Compare Call JoinedStr FormattedValue Constant Attribute Subscript Starred Name List Tuple Slice Load
-Store Del And Or Add Sub Mult FloorDiv Mod Pow LShift RShift BitOr BitXor BitAnd Invert Not USub UAdd Eq NotEq Lt LtE
+Store Del keyword And Or Add Sub Mult FloorDiv Mod Pow LShift RShift BitOr BitXor BitAnd Invert Not USub UAdd Eq NotEq Lt LtE
 Gt GtE Is IsNot In NotIn""".split()
 OWN_NAMES = """len range enumerate zip min max sum abs sorted reversed int str bool bytes list tuple dict set isinstance
 ord repr any all divmod Exception ValueError TypeError KeyError IndexError LookupError ZeroDivisionError
@@ -28,6 +28,8 @@ NamedTuple TypedDict TYPE_CHECKING abstractmethod""".split()
 NO_NAMES = """register mro elements open input version_info with_traceback add_note attrgetter breakpoint builtins compile
 copyright credits delattr dir eval exec exit gc getattr globals hasattr help id importlib license locals methodcaller
 os quit setattr super type vars sys""".split()
+KEYWORDS = {"sorted": ("key", "reverse"), "min": ("key", "default"), "max": ("key", "default"), "sum": ("start",),
+            "enumerate": ("start",), "zip": ("strict",), "sort": ("key", "reverse")}
 WALKED = ("zip", "enumerate", "reversed", "range")
 WALKERS = ("list", "tuple", "dict", "sorted", "sum", "any", "all", "enumerate", "zip", "bytes", "min", "max")
 
@@ -89,6 +91,8 @@ class Language(unittest.TestCase):
         for stem, node in nodes(ast.Constant):
             self.hold(not isinstance(node.value, (float, complex)), "L7", stem, node)
             self.hold(not isinstance(node.value, str) or "%" not in node.value, "L27", stem, node)
+        for stem, node in nodes(ast.Starred):
+            self.hold(isinstance(node.ctx, ast.Store), "L7", stem, node)
         for stem, node in nodes(ast.FormattedValue):
             self.hold(node.format_spec is None, "L7", stem, node)
 
@@ -139,6 +143,13 @@ class Language(unittest.TestCase):
                 self.hold(name not in imported(stem), "L15", stem, node)
             elif hasattr(builtins, name):
                 self.hold(name in OWN_NAMES + methods, "L8", stem, node)
+
+    def test_keywords(self):
+        for stem, node in nodes(ast.Call):
+            name = getattr(node.func, "id", None) or getattr(node.func, "attr", None)
+            for keyword in node.keywords:
+                own = name not in METHODS and not hasattr(builtins, name)
+                self.hold(own or keyword.arg in KEYWORDS.get(name, ()), "L22", stem, node)
 
     def test_is_stands_beside_none_and_truths(self):
         for stem, node in nodes(ast.Compare):

@@ -169,7 +169,8 @@ class Fits(unittest.TestCase):
         lot = [("a", (0,)), ("b", (0,))]
         for a, b in itertools.product(range(10), repeat=2):
             self.assertIs(fits(house, lot, {}, {lot[0]: a, lot[1]: b}), a == b)
-        self.assertIs(fits(house, lot, {}, {lot[0]: 10, lot[1]: 10}), False)
+        for number in (10, 11, -1, -10, 10**9, -(10**9)):
+            self.assertIs(fits(house, lot, {}, {lot[0]: number, lot[1]: number}), False)
         odd = house_of(("a", op("+", at("a", 0), num(1))))
         for number in range(10):
             self.assertIs(fits(odd, [("a", (0,))], {}, {("a", (0,)): number}), False)

@@ -7,7 +7,7 @@ from clockhouse.lots import box, fits
 from clockhouse.needs import needed, reckoned
 from tests.samples import (
     Dice, at, good_house, has_ring, house_of, if_, num, op, plain_cell_worth, plain_needs, plain_waits, some_lot,
-    some_rim, stepped_house,
+    some_rim, stepped_house, stirred,
 )
 
 COUNT = house_of(("a", op("+", at("a", -1), num(1))), wheel=10**9)
@@ -21,11 +21,6 @@ def long_ring(many):
     forth = [("a", (k,)) for k in range(many)]
     back = [("b", (k,)) for k in reversed(range(many))]
     return forth + [("c", (many - 1,))] + back + [("d", (0,))]
-
-
-def stirred(dice, things):
-    things = list(things)
-    return [things.pop(dice.below(len(things))) for thing in list(things)]
 
 
 class Asked(unittest.TestCase):
