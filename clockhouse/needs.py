@@ -1,5 +1,6 @@
 """Reckoning by need: a lot's numbers or a ring in it, and what a cell needs."""
 
+from clockhouse.errors import Ring
 from clockhouse.houses import waits_for
 from clockhouse.lots import cell_worth
 
@@ -50,28 +51,53 @@ def ring_among(waits, order):
     return path[path.index(cell):]
 
 
-def reckoned(house, lot, rim):
-    """("told", numbers), a list in the lot's order; or, just where there is one, ("ring", cells)."""
+def waits_and_order(house, lot):
+    """(waits, order) of a lot: which of its cells each one waits for, and all of them, each behind those; refused with
+    Ring where cells of the lot wait for one another."""
     waits = waits_within(house, lot)
     order = due_order(waits)
     ring = ring_among(waits, order)
     if ring:
-        return ("ring", ring)
+        raise Ring(ring)
+    return (waits, order)
+
+
+def reckoned(house, lot, rim):
+    """("told", numbers), a list in the lot's order; or, just where there is one, ("ring", cells)."""
+    try:
+        waits, order = waits_and_order(house, lot)
+    except Ring as e:
+        return ("ring", e.cells)
     numbers = {}
     for cell in order:
         numbers[cell] = cell_worth(house, rim, numbers, cell)
     return ("told", [numbers[cell] for cell in lot])
 
 
-def needed(house, lot, cell):
-    """A list, in the lot's order, of the cells that are come to from a cell by waiting within the lot, itself too."""
-    waits = waits_within(house, lot)
-    found = {cell: True}
-    due = [cell]
+def come_to(starts, links):
+    """A dict of all cells that are come to from some, these too, by links: a dict from cells to lists of the next."""
+    found = {cell: True for cell in starts}
+    due = list(starts)
     while due:
-        one = due.pop()
-        for other in waits[one]:
+        for other in links[due.pop()]:
             if other not in found:
                 found[other] = True
                 due.append(other)
+    return found
+
+
+def needed(house, lot, cell):
+    """A list, in the lot's order, of the cells that are come to from a cell by waiting within the lot, itself too."""
+    found = come_to([cell], waits_within(house, lot))
     return [inner for inner in lot if inner in found]
+
+
+def outer_readers(house, lot):
+    """A dict from each cell outside a lot that cells of it wait for to a list of these."""
+    inside = {cell: True for cell in lot}
+    readers = {}
+    for cell in lot:
+        for other in waits_for(house, cell):
+            if other not in inside:
+                readers.setdefault(other, []).append(cell)
+    return readers

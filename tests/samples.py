@@ -94,6 +94,42 @@ def stepped_house(dice, most=2, names=("a", "bb", "c", "dd", "e", "f")):
     return house_with(names, steps, ways, dice.one_of((2, 10, 10**9)))
 
 
+def paced_house(dice, most=2):
+    """A house that keeps one pace: a hand is drawn, then steps that gain by it."""
+    ways = 1 + dice.below(3)
+    names = stirred(dice, ("a", "bb", "c", "dd", "e", "f"))[:1 + dice.below(6)]
+    hand = tuple([dice.below(5) - 2 for way in range(ways)])
+    hours = {name: dice.below(7) - 3 for name in names}
+    steps = []
+    for turn in range(dice.below(41)):
+        row = tuple([dice.below(2 * most + 1) - most for way in range(ways)])
+        step = (dice.one_of(names), dice.one_of(names), row)
+        few = len(steps) < 16 and len([one for one in steps if one[0] == step[0]]) < 11
+        if few and step not in steps and plain_gain(hand, hours, step) >= 1:
+            steps.append(step)
+    return house_with(names, steps, ways, dice.one_of((2, 10, 997, 10**9)))
+
+
+def mixed(dice, house):
+    """A house of the same steps whose rules have signs of all kinds, and read some twice."""
+    ways, wheel, desks = house
+    return (ways, wheel, tuple([(name, mixed_rule(dice, plain_reads(rule))) for name, rule in desks]))
+
+
+def mixed_rule(dice, reads):
+    parts = [at(name, *row) for name, row in reads]
+    parts.append(dice.one_of(parts) if parts and dice.below(2) else num(dice.below(1000)))
+    if dice.below(2):
+        parts.append(num(1 + dice.below(4)))
+    while len(parts) > 1:
+        k = dice.below(len(parts) - 1)
+        if k + 3 <= len(parts) and not dice.below(3):
+            parts[k:k + 3] = [if_(*parts[k:k + 3])]
+        else:
+            parts[k:k + 2] = [op(dice.one_of(SIGNS + ("+", "+", "-", "-")), *parts[k:k + 2])]
+    return parts[0]
+
+
 def wound_house(dice):
     """A house with a clock of two or three hands, whose rows were moved and turned; its desks stand in any order."""
     ways = dice.one_of((2, 3))
@@ -253,6 +289,24 @@ def has_ring(house, lot):
     return any(cell in plain_needs(house, lot, cell) for cell in lot)
 
 
+def is_ring(house, lot, cells):
+    """Whether cells are a ring of a lot, as the document tells it."""
+    pairs = list(zip(cells, cells[1:] + cells[:1]))
+    return isinstance(cells, list) and len(set(cells)) == len(cells) > 0 and all(
+        cell in lot and other in plain_waits(house, cell) for cell, other in pairs)
+
+
+def plain_reckoned(house, lot, rim):
+    """The answer, a dict, of a lot without a ring: over and over, whatever is due."""
+    numbers = {}
+    while len(numbers) < len(lot):
+        for cell in lot:
+            inner = [other for other in plain_waits(house, cell) if other in lot]
+            if cell not in numbers and all(other in numbers for other in inner):
+                numbers[cell] = plain_cell_worth(house, lot, rim, numbers, cell)
+    return numbers
+
+
 def plain_knots(house, some):
     """knots_of, by the words of the document."""
     names = [name for name, rule in house[2]]
@@ -297,6 +351,12 @@ def hand_time(row, hours, cell):
     return sum([a * b for a, b in zip(row, cell[1])]) + hours[cell[0]]
 
 
+def plain_gain(row, hours, step):
+    """A step's gain by a hand, seen at the place of noughts."""
+    name, other, away = step
+    return hand_time(row, hours, (name, (0,) * len(row))) - hand_time(row, hours, (other, away))
+
+
 def plain_time(clock, cell):
     """time_of, by the words of the document."""
     knot, hands = clock[cell[0]]
@@ -314,6 +374,38 @@ def plain_kept(house, clock, step):
     name, other, row = step
     return all(plain_time(clock, (name, place)) > plain_time(clock, (other, plain_led(place, row)))
                for place in telling_places(house[0]))
+
+
+def some_clock(dice, house):
+    """Any clock, its rows, hours and knots often alike."""
+    hands = dice.below(7)
+    most = dice.one_of((1, 1, 2, 10**9))
+
+    def number():
+        return dice.below(2 * most + 1) - most
+    rows = [tuple([number() for way in range(house[0])]) for hand in range(hands)]
+    clock = {}
+    for name, rule in house[2]:
+        knot = dice.one_of((0, 0, 0, number()))
+        own = [row if dice.below(6) else tuple([number() for way in row]) for row in rows]
+        clock[name] = (knot, tuple([(row, dice.one_of((0, number()))) for row in own]))
+    return clock
+
+
+def other_clock(dice, clock):
+    """A clock that keeps each step that a clock keeps: knots farther apart, hands stretched, more hands behind."""
+    apart, more = 1 + dice.below(4), dice.below(5) - 2
+    stretched = {knot: 1 + dice.below(5) for knot, hands in clock.values()}
+    behind = dice.below(4)
+    told = {}
+    for name, (knot, hands) in clock.items():
+        many = stretched[knot]
+        own = [(tuple([many * number for number in row]), many * hour + more) for row, hour in hands]
+        ways = len(hands[0][0]) if hands else 0
+        for hand in range(behind if hands else 0):
+            own.append((tuple([dice.below(7) - 3 for way in range(ways)]), dice.below(7) - 3))
+        told[name] = (apart * knot + more, tuple(own))
+    return told
 
 
 def plain_paper_holds(house, paper):

@@ -8,7 +8,8 @@ from clockhouse.clockmaker import clock_of, paper_of
 from clockhouse.clocks import first_late, paper_holds, time_of
 from clockhouse.houses import steps_of
 from tests.samples import (
-    Dice, house_of, house_with, num, plain_kept, plain_paper_holds, plain_steps, plain_time, stepped_house, wound_house,
+    Dice, house_of, house_with, num, plain_kept, plain_paper_holds, plain_steps, plain_time, some_clock, stepped_house,
+    wound_house,
 )
 from tests.test_bundles import told_bundles
 
@@ -57,22 +58,6 @@ class TimeOf(unittest.TestCase):
                 told = time_of(clock, (name, place))
                 self.assertIsInstance(told, tuple)
                 self.assertEqual(told, plain_time(clock, (name, place)))
-
-
-def some_clock(dice, house):
-    """Any clock, its rows, hours and knots often alike."""
-    hands = dice.below(7)
-    most = dice.one_of((1, 1, 2, MOST))
-
-    def number():
-        return dice.below(2 * most + 1) - most
-    rows = [tuple([number() for way in range(house[0])]) for hand in range(hands)]
-    clock = {}
-    for name, rule in house[2]:
-        knot = dice.one_of((0, 0, 0, number()))
-        own = [row if dice.below(6) else tuple([number() for way in row]) for row in rows]
-        clock[name] = (knot, tuple([(row, dice.one_of((0, number()))) for row in own]))
-    return clock
 
 
 class FirstLate(unittest.TestCase):
