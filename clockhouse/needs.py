@@ -79,7 +79,8 @@ def come_to(starts, links):
     found = {cell: True for cell in starts}
     due = list(starts)
     while due:
-        for other in links[due.pop()]:
+        cell = due.pop()
+        for other in links[cell]:
             if other not in found:
                 found[other] = True
                 due.append(other)

@@ -74,3 +74,20 @@ def worth(rule, numbers, wheel):
             c, a, b = pile.pop(), pile.pop(), pile.pop()
             pile.append(a if c != 0 else b)
     return pile[0]
+
+
+def with_rows(rule, rows):
+    """The rule with other rows, by a list of those of its reads from left to right."""
+    pile = []
+    reads_left = len(rows)
+    for part in reversed(parts_of(rule)):
+        if part[0] == "num":
+            pile.append(part)
+        elif part[0] == "at":
+            reads_left -= 1
+            pile.append(("at", part[1], rows[reads_left]))
+        elif part[0] == "op":
+            pile.append(("op", part[1], pile.pop(), pile.pop()))
+        else:
+            pile.append(("if", pile.pop(), pile.pop(), pile.pop()))
+    return pile[0]

@@ -177,6 +177,18 @@ def determinant(table):
                 for k, number in enumerate(table[0])])
 
 
+def some_table(dice, ways):
+    """A table by which houses can be turned, its numbers from -3 to 3."""
+    while True:
+        table = tuple([tuple([dice.below(7) - 3 for way in range(ways)]) for way in range(ways)])
+        if determinant(table) in (1, -1):
+            return table
+
+
+def some_offsets(dice, house):
+    return {name: tuple([dice.below(7) - 3 for way in range(house[0])]) for name, rule in house[2]}
+
+
 def stirred(dice, things):
     things = list(things)
     return [things.pop(dice.below(len(things))) for thing in list(things)]

@@ -31,6 +31,7 @@ os quit setattr super type vars sys""".split()
 KEYWORDS = {"sorted": ("key", "reverse"), "min": ("key", "default"), "max": ("key", "default"), "sum": ("start",),
             "enumerate": ("start",), "zip": ("strict",), "sort": ("key", "reverse")}
 WALKED = ("zip", "enumerate", "reversed", "range")
+CHANGES = "append clear extend insert pop remove reverse setdefault update add discard sort".split()
 WALKERS = ("list", "tuple", "dict", "sorted", "sum", "any", "all", "enumerate", "zip", "bytes", "min", "max")
 
 
@@ -175,6 +176,17 @@ class Language(unittest.TestCase):
             name = getattr(node.func, "id", None) or getattr(node.func, "attr", None)
             if name in WALKED + ("items", "keys", "values"):
                 self.hold(node in walked, "L23", stem, node)
+
+    def test_what_is_walked_is_not_changed(self):
+        for stem, node in nodes(ast.For):
+            walked = [ast.unparse(part) for part in ast.walk(node.iter) if isinstance(part, (ast.Name, ast.Attribute))]
+            for part in [part for row in node.body for part in ast.walk(row)]:
+                changed = None
+                if isinstance(part, ast.Call) and isinstance(part.func, ast.Attribute) and part.func.attr in CHANGES:
+                    changed = ast.unparse(part.func.value)
+                if isinstance(part, ast.Subscript) and not isinstance(part.ctx, ast.Load):
+                    changed = ast.unparse(part.value)
+                self.hold(changed not in walked, "L23", stem, part)
 
 
 if __name__ == "__main__":
